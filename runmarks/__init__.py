@@ -1,0 +1,1 @@
+"""Runmarks: sets of numbers kept small, and tables asked by them."""
