@@ -1,6 +1,14 @@
 """Sets of places that the tests ask about, each as a rising list, and what a plain list says of them."""
 
 import random
+import unittest
+
+
+class Checks(unittest.TestCase):
+    def same(self, answer, wanted):
+        """Equal, and no truth where a whole number is wanted."""
+        self.assertEqual(answer, wanted)
+        self.assertIs(type(answer), type(wanted))
 
 
 def built_sets():

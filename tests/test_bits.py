@@ -3,7 +3,7 @@
 import random
 import unittest
 
-from examples import plain_runs, plain_word, some_sets
+from examples import Checks, plain_runs, plain_word, some_sets
 from runmarks.bits import (
     bit_at, bits_text, counted, first_one, is_whole, last_one, number_of, one_at, ones_below, places_of,
     pushed, runs_of, span_word, word_of, word_of_runs,
@@ -12,17 +12,12 @@ from runmarks.bits import (
 ALL = 2 ** 256 - 1
 
 
-class Checks(unittest.TestCase):
-    def same(self, answer, wanted):
-        """Equal, and no truth where a whole number is wanted."""
-        self.assertEqual(answer, wanted)
-        self.assertIs(type(answer), type(wanted))
-
+class Sets(Checks):
     def each_set(self):
         return [(places, plain_word(places)) for places in some_sets()]
 
 
-class Whole(Checks):
+class Whole(Sets):
     """Point 2."""
 
     def test_whole_numbers(self):
@@ -36,7 +31,7 @@ class Whole(Checks):
                 self.assertIs(is_whole(thing), False)
 
 
-class Ends(Checks):
+class Ends(Sets):
     """Point 4."""
 
     def test_no_ones(self):
@@ -60,7 +55,7 @@ class Ends(Checks):
             self.same(last_one(word), places[-1])
 
 
-class Asked(Checks):
+class Asked(Sets):
     """Point 5."""
 
     def test_bits(self):
@@ -106,7 +101,7 @@ class Asked(Checks):
         self.same(one_at(2 ** 255, 0), 255)
 
 
-class Places(Checks):
+class Places(Sets):
     """Point 6."""
 
     def test_no_places(self):
@@ -153,7 +148,7 @@ class Places(Checks):
                 self.same(span_word(first, last), plain_word(range(first, last + 1)))
 
 
-class Runs(Checks):
+class Runs(Sets):
     """Point 7."""
 
     def test_runs_at_the_edges(self):
@@ -197,7 +192,7 @@ class Runs(Checks):
             self.assertEqual(runs_of(word), runs)
 
 
-class Pushed(Checks):
+class Pushed(Sets):
     """Point 8."""
 
     def test_at_the_edges(self):
@@ -218,7 +213,7 @@ class Pushed(Checks):
                 self.assertEqual(low + 2 ** 256 * high, word * 2 ** by)
 
 
-class Texts(Checks):
+class Texts(Sets):
     """Point 9."""
 
     def test_written(self):

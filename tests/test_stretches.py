@@ -2,7 +2,7 @@
 
 import unittest
 
-from examples import plain_runs, plain_word, some_sets
+from examples import Checks, plain_runs, plain_word, some_sets
 from runmarks.stretches import BitStretch, ListStretch, RunStretch, Stretch
 
 
@@ -10,17 +10,12 @@ def three_kinds(places):
     return [ListStretch(places), BitStretch(plain_word(places)), RunStretch(plain_runs(places))]
 
 
-class Checks(unittest.TestCase):
-    def same(self, answer, wanted):
-        """Equal, and no truth where a whole number is wanted."""
-        self.assertEqual(answer, wanted)
-        self.assertIs(type(answer), type(wanted))
-
+class Sets(Checks):
     def each_stretch(self):
         return [(places, stretch) for places in some_sets() for stretch in three_kinds(places)]
 
 
-class Classes(Checks):
+class Classes(Sets):
     def test_who_stands_under_whom(self):
         three = (ListStretch, BitStretch, RunStretch)
         for one in three:
@@ -29,7 +24,7 @@ class Classes(Checks):
                 self.assertEqual(issubclass(one, other), one is other)
 
 
-class Held(Checks):
+class Held(Sets):
     """Point 10."""
 
     def test_kind(self):
@@ -85,7 +80,7 @@ class Held(Checks):
             self.assertIsNone(stretch.backward(0))
 
 
-class Asked(Checks):
+class Asked(Sets):
     """Point 11."""
 
     def test_word_and_many(self):
@@ -135,7 +130,7 @@ class Asked(Checks):
             self.assertEqual([stretch.below(place) for place in (0, 1, 255, 256)], [0, 1, 1, 2])
 
 
-class Size(Checks):
+class Size(Sets):
     """Point 12."""
 
     def test_size(self):
