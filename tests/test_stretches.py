@@ -2,12 +2,8 @@
 
 import unittest
 
-from examples import Checks, plain_runs, plain_word, some_sets
+from examples import Checks, plain_runs, plain_word, some_sets, three_kinds
 from runmarks.stretches import BitStretch, ListStretch, RunStretch, Stretch
-
-
-def three_kinds(places):
-    return [ListStretch(places), BitStretch(plain_word(places)), RunStretch(plain_runs(places))]
 
 
 class Sets(Checks):
