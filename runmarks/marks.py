@@ -6,6 +6,7 @@ from runmarks.errors import NoNumber, NoPlace
 from runmarks.kept import added, kept, removed
 
 GREATEST = 65535
+KEYS = 256
 
 
 def check_number(thing):
