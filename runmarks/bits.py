@@ -2,6 +2,12 @@
 
 PLACES = 256
 
+# Of each two neighbouring fields of 1, 2, 4 or 8 bits in a word the lower one.
+LOWER_1 = 0x5555555555555555555555555555555555555555555555555555555555555555
+LOWER_2 = 0x3333333333333333333333333333333333333333333333333333333333333333
+LOWER_4 = 0x0F0F0F0F0F0F0F0F0F0F0F0F0F0F0F0F0F0F0F0F0F0F0F0F0F0F0F0F0F0F0F0F
+LOWER_8 = 0x00FF00FF00FF00FF00FF00FF00FF00FF00FF00FF00FF00FF00FF00FF00FF00FF
+
 
 def is_whole(thing):
     # True and False are ints to Python, but no whole numbers here.
@@ -22,11 +28,13 @@ def without_first(word):
 
 
 def counted(word):
-    many = 0
-    while word > 0:
-        word = without_first(word)
-        many += 1
-    return many
+    # All fields are added to their neighbours at once: this is asked far too often to go one by one.
+    by_two = (word & LOWER_1) + ((word >> 1) & LOWER_1)
+    by_four = (by_two & LOWER_2) + ((by_two >> 2) & LOWER_2)
+    by_eight = (by_four & LOWER_4) + ((by_four >> 4) & LOWER_4)
+    by_sixteen = (by_eight & LOWER_8) + ((by_eight >> 8) & LOWER_8)
+    # What is left over by 2^16 - 1 is the sum of the fields of 16 bits, for each 2^16 leaves 1.
+    return by_sixteen % 65535
 
 
 def ones_below(word, place):
