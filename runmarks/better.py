@@ -52,8 +52,6 @@ def clipped(within, top):
 def all_of(parts):
     flat = []
     for part in parts:
-        if isinstance(part, Nobody):
-            return Nobody()
         if isinstance(part, AllOf):
             flat.extend(part.parts)
         elif not isinstance(part, Every):
@@ -70,8 +68,6 @@ def all_of(parts):
 def one_of(parts, columns):
     flat = []
     for part in parts:
-        if isinstance(part, Every):
-            return Every()
         if isinstance(part, OneOf):
             flat.extend(part.parts)
         elif not isinstance(part, Nobody):

@@ -3,7 +3,6 @@
 from runmarks.bits import PLACES, bit_at, places_of
 from runmarks.columns import Column
 from runmarks.joins import common, less, shared
-from runmarks.marks import check_number
 
 
 class ByBits(Column):
@@ -21,7 +20,6 @@ class ByBits(Column):
         return places_of(value)
 
     def value(self, row):
-        check_number(row)
         if not self.valued.has(row):
             return None
         return sum([1 << bit for bit in self.numbers_at(row // PLACES) if self.by_number[bit].has(row)])
@@ -55,8 +53,6 @@ class ByBits(Column):
         return self.numbers_at(key)
 
     def word_at(self, key, low, high):
-        if low > high:
-            return 0
         return self.word_up_to(key, high) & ~self.word_up_to(key, low - 1)
 
     def word_up_to(self, key, limit):

@@ -4,7 +4,7 @@ from runmarks.asking import figures_of, read_question
 from runmarks.better import better
 from runmarks.errors import NoLine
 from runmarks.tables import Table
-from runmarks.walks import bound, check_name, check_names, walked, walked_by_books
+from runmarks.walks import bound, check_name, walked, walked_by_books
 from runmarks.writing import written
 
 ASKING = ("rows", "count", "better", "touched")
@@ -76,16 +76,11 @@ class Desk:
         check_name(words[1], self.table.columns)
         return written(self.table.columns[words[1]].set_of(number))
 
-    def question_of(self, text):
-        question = read_question(text)
-        check_names(question, self.table.columns)
-        return question
-
     def say_asking(self, first, line):
         # The text of the question keeps its blanks: so it is cut off, not put together of words again.
         if " " not in line:
             raise NoLine("there is no question behind the word")
-        question = self.question_of(line.partition(" ")[2])
+        question = read_question(line.partition(" ")[2])
         neat_one = better(question, self.table.columns)
         if first == "better":
             return neat_one.shown()
@@ -104,8 +99,7 @@ class Desk:
             raise NoLine("there is no question behind the column's name")
         name, blank, text = rest.partition(" ")
         check_name(name, self.table.columns)
-        question = better(self.question_of(text), self.table.columns)
-        rows = walked_by_books(question, self.table.columns, self.table.present)[0]
+        rows = self.table.ask(text)[0]
         column = self.table.columns[name]
         if first == "sum":
             return str(column.total(rows))

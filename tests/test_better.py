@@ -93,6 +93,9 @@ NEAT = (
     OneOf([A(1), AllOf([A(2), B(3)])]), OneOf([B(1), AllOf([B(2), A(2)])]),
     AllOf([OneOf([A(1), AllOf([B(2), C(1)])]), OneOf([A(1), B(3)])]),
     OneOf([B(1), Opposite(B(2)), Opposite(B(3))]), AllOf([A(1), Opposite(A(1, 2))]),
+    AllOf([OneOf([A(1), B(2)]), OneOf([AllOf([A(1), B(2)]), C(1)])]),
+    OneOf([AllOf([A(1), B(2)]), AllOf([OneOf([A(1), B(2)]), C(1)])]), OneOf([A(1), AllOf([Opposite(A(1)), C(1)])]),
+    OneOf([A(1), B(1), AllOf([A(1, 2), C(1)])]),
 )
 NOT_NEAT = (
     AllOf([Every(), A(1)]), OneOf([A(1), Nobody()]), Opposite(Every()), Opposite(Nobody()), AllOf([A(1), B(1), Every()]),
@@ -234,6 +237,10 @@ class PutOtherwise(MarksChecks):
             (A(-(10 ** 99), 3), A(0, 3)), (B(3, 10 ** 99), B(3, 15)),
         ):
             self.assertEqual(fields(better(question, columns)), fields(wanted), fields(question))
+
+    def test_neat_ones_stay(self):
+        for question in NEAT:
+            self.assertEqual(fields(better(question, new_columns(KINDS))), fields(question))
 
     def test_it_hangs_on_no_rows_and_no_other_columns(self):
         source = random.Random(753)

@@ -1,4 +1,7 @@
-"""What can be seen at a glance of ../shared/LANGUAGE.md, rules L1 to L28, over the package's files."""
+"""What can be seen at a glance of ../shared/LANGUAGE.md, rules L1 to L28, over the package's files.
+
+Some checks are narrower than the rules: they leave out what the package has no need of.
+"""
 
 import ast
 import builtins
@@ -65,9 +68,29 @@ def local_names(tree):
     return names
 
 
+def with_parents(tree):
+    """All nodes of a tree but the first, each with the node that it stands in."""
+    return [(child, node) for node in ast.walk(tree) for child in ast.iter_child_nodes(node)]
+
+
+def called_name(node):
+    """The name or method that a call calls, None of any other node."""
+    if not isinstance(node, ast.Call):
+        return None
+    return node.func.id if isinstance(node.func, ast.Name) else node.func.attr if isinstance(node.func, ast.Attribute) else None
+
+
+def is_first_in(node, parent, names):
+    return called_name(parent) in names and isinstance(parent.func, ast.Name) and node in parent.args[:1]
+
+
 class Language(unittest.TestCase):
     def each_file(self):
         return [(path.name, path.read_text(encoding="utf-8"), parsed(path)) for path in FILES]
+
+    def each_node(self):
+        return [(f"{name}:{getattr(node, 'lineno', '?')}", node, parent)
+                for name, text, tree in self.each_file() for node, parent in with_parents(tree)]
 
     def test_files(self):
         """L1, L14."""
@@ -196,6 +219,122 @@ class Language(unittest.TestCase):
             for node in ast.walk(tree):
                 if isinstance(node, ast.Attribute):
                     self.assertIn(node.attr, methods | values | METHODS, f"{name}:{node.lineno}")
+
+    def test_calls_by_themselves(self):
+        """L6."""
+        for where, node, parent in self.each_node():
+            if isinstance(node, ast.Expr) and not isinstance(parent, ast.Module):
+                self.assertIsInstance(node.value, ast.Call, where)
+
+    def test_two_forms(self):
+        """L13."""
+        for where, node, parent in self.each_node():
+            self.assertNotIsInstance(node, ast.Set, where)
+        lambdas = [(where, [arg.arg for arg in node.args.args]) for where, node, parent in self.each_node()
+                   if isinstance(node, ast.Lambda)]
+        for each in lambdas:
+            self.assertEqual(lambdas.count(each), 1, each)
+
+    def test_tops_are_only_read(self):
+        """L3, L15: what the package's files keep at their tops is no list and no dict, so nothing can change it."""
+        for name, text, tree in self.each_file():
+            for node in tree.body:
+                if isinstance(node, ast.Assign):
+                    for part in ast.walk(node.value):
+                        self.assertIsInstance(part, (ast.Constant, ast.Tuple, ast.Load), f"{name}:{node.lineno}")
+
+    def test_classes(self):
+        """L5, L18, L28."""
+        classes = {node.name for name, text, tree in self.each_file() for node in tree.body if isinstance(node, ast.ClassDef)}
+        for where, node, parent in self.each_node():
+            if isinstance(node, ast.Name) and node.id in classes:
+                tested = isinstance(parent, ast.Tuple) or called_name(parent) == "isinstance" and node in parent.args[1:]
+                called = isinstance(parent, ast.Call) and parent.func == node
+                of_base = isinstance(parent, ast.Attribute) and parent.attr == "__init__"
+                self.assertTrue(tested or called or of_base or isinstance(parent, (ast.ClassDef, ast.ExceptHandler)), where)
+            if isinstance(node, ast.ClassDef):
+                names = [item.name for item in node.body if isinstance(item, ast.FunctionDef)]
+                self.assertEqual(len(names), len(set(names)), where)
+                self.assertLessEqual({name for name in names if name.startswith("_")}, {"__init__"}, where)
+            if isinstance(node, ast.FunctionDef) and node.name == "__init__":
+                self.assertFalse([each for each in ast.walk(node) if isinstance(each, ast.Return)], where)
+            if isinstance(node, ast.Attribute) and isinstance(node.ctx, ast.Store):
+                self.assertIsInstance(node.value, ast.Name, where)
+
+    def test_errors(self):
+        """L19."""
+        for where, node, parent in self.each_node():
+            self.assertNotIsInstance(node, ast.Try, where)
+            if isinstance(node, ast.Raise):
+                self.assertRegex(called_name(node.exc) or "", r"^[A-Z]", where)
+                self.assertIsNone(node.cause, where)
+
+    def test_annotations(self):
+        """L21."""
+        for where, node, parent in self.each_node():
+            self.assertNotIsInstance(node, ast.AnnAssign, where)
+            self.assertIsNone(getattr(node, "annotation", None), where)
+            self.assertIsNone(getattr(node, "returns", None), where)
+
+    def test_own_names_as_they_are_called(self):
+        """L22."""
+        keywords = {"sorted": {"key", "reverse"}, "min": {"key", "default"}, "max": {"key", "default"}}
+        values = {"int", "str", "bool", "list", "tuple", "dict"}
+        for where, node, parent in self.each_node():
+            if isinstance(node, ast.Name) and node.id in BUILT_IN and not node.id[0].isupper():
+                called = isinstance(parent, ast.Call) and parent.func == node
+                tested = node.id in values and called_name(parent) == "isinstance" and node in parent.args[1:]
+                self.assertTrue(called or tested, where)
+            if isinstance(node, ast.Call):
+                told = {keyword.arg for keyword in node.keywords}
+                self.assertLessEqual(told, keywords.get(called_name(node), set()), where)
+
+    def test_walked_at_once(self):
+        """L23."""
+        walked = {"zip", "enumerate", "reversed", "range"}
+        first_in = {"list", "tuple", "dict", "sorted", "sum", "any", "all", "enumerate", "zip"}
+        for where, node, parent in self.each_node():
+            method = isinstance(node, ast.Call) and isinstance(node.func, ast.Attribute)
+            if called_name(node) in ({"items", "keys", "values"} if method else walked):
+                behind_in = isinstance(parent, (ast.For, ast.comprehension)) and parent.iter == node
+                self.assertTrue(behind_in or is_first_in(node, parent, first_in), where)
+
+    def test_what_a_loop_walks_is_not_changed(self):
+        """L23."""
+        changing = {"append", "clear", "extend", "insert", "pop", "remove", "reverse", "setdefault", "update"}
+        for where, node, parent in self.each_node():
+            if not isinstance(node, ast.For):
+                continue
+            walked = {ast.dump(each) for each in ast.walk(node.iter) if isinstance(each, (ast.Name, ast.Attribute))}
+            called = called_name(node.iter)
+            if called in ("list", "sorted", "range"):
+                continue
+            for inner in [each for step in node.body for each in ast.walk(step)]:
+                if isinstance(inner, ast.Subscript) and isinstance(inner.ctx, ast.Store):
+                    self.assertNotIn(ast.dump(inner.value).replace("Store", "Load"), walked, where)
+                if called_name(inner) in changing and isinstance(inner.func, ast.Attribute):
+                    self.assertNotIn(ast.dump(inner.func.value), walked, where)
+
+    def test_sets(self):
+        """L24."""
+        for where, node, parent in self.each_node():
+            if called_name(node) in ("set", "frozenset"):
+                joined = isinstance(parent, ast.BinOp) and isinstance(parent.op, (ast.Sub, ast.BitAnd, ast.BitOr, ast.BitXor))
+                compared = isinstance(parent, ast.Compare)
+                self.assertTrue(joined or compared or is_first_in(node, parent, {"sorted", "len"}), where)
+
+    def test_methods_are_called_where_they_stand(self):
+        """L25."""
+        trees = [tree for name, text, tree in self.each_file()]
+        methods = METHODS | set().union(*[class_methods(tree) for tree in trees])
+        for where, node, parent in self.each_node():
+            if isinstance(node, ast.Attribute) and node.attr in methods:
+                self.assertTrue(isinstance(parent, ast.Call) and parent.func == node, where)
+
+    def test_texts(self):
+        """L27: no escapes at all."""
+        for name, text, tree in self.each_file():
+            self.assertNotIn("\\", text, name)
 
 
 if __name__ == "__main__":

@@ -94,7 +94,7 @@ class Deeds(MarksChecks):
         self.assert_marks(marks, [])
 
     def test_first_greater_than_last(self):
-        for first, last in ((1, 0), (65535, 0), (256, 255), (300, 299), (5, 4), (700, 20)):
+        for first, last in ((1, 0), (65535, 0), (256, 255), (300, 299), (5, 4), (700, 20), (9, 3), (255, 0), (511, 256)):
             for numbers in ([], [0, 4, 5, 255, 256, 299, 300, 65535]):
                 marks = marks_of(numbers)
                 self.same(marks.put_span(first, last), 0)

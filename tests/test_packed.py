@@ -89,6 +89,14 @@ class Answers(MarksChecks):
             with self.assertRaises(NoPlace):
                 packed_chosen(tape, k)
 
+    def test_a_body_is_not_taken_for_a_head(self):
+        for numbers in ([9], [9, 77], at_key(3, [200]), at_key(3, EVERYTHING[100:200]), at_key(1, [5]) + at_key(2, [50, 60])):
+            tape = plain_tape(numbers)
+            for n in range(0, 65536, 256):
+                for place in (9, 100, 255):
+                    self.assert_answer(packed_has(tape, n + place), n + place in numbers, tape)
+                    self.assert_answer(packed_below(tape, n + place), len([m for m in numbers if m < n + place]), tape)
+
     def test_no_number(self):
         for numbers in ([], [7], CHEQUERED):
             tape = plain_tape(numbers)
@@ -140,6 +148,7 @@ class OnWhatTheyHang(MarksChecks):
             for question in questions_of(text, [5, 600, 60000]):
                 told = self.told_or_refused(question, text)
                 if told is not None:
+                    self.assertTrue(all(0 <= first < end <= len(text) for first, end in told[1]))
                     other = turned_outside(text, told[1], lambda sign: "1" if sign == "0" else "0")
                     self.assertEqual(question(other), told)
                     self.assertEqual(question(text), told)
